@@ -1,0 +1,1 @@
+"""Tiedcut: forests whose points are tied and cut while they are asked."""
