@@ -1,5 +1,6 @@
 """What the document says of forests, reckoned once more, in as plain a way as can be, for the tests."""
 
+from tests.rowmakers import DEEDS, POINTS_AT
 from tiedcut.errors import Apart, NoPlace, NoPoint, NoTie, Ring
 
 
@@ -126,14 +127,11 @@ def the_answer(forest, row):
     return fit[0] if fit else None
 
 
-POINTS_AT = {"new": (), "put": (1,), "paint": (1,), "meet": (1, 2, 3)}
-
-
 def the_outcome(forest, row):
     """(forest, told) of any row by its form."""
-    numbers = [row[k] for k in POINTS_AT.get(row[0], (1, 2)) if row[k] is not None]
+    numbers = [row[k] for k in POINTS_AT[row[0]] if row[k] is not None]
     if any(number not in range(len(forest[0])) for number in numbers):
         raise NoPoint()
-    if row[0] in ("new", "put", "paint", "tie", "cut", "add", "spread"):
+    if row[0] in DEEDS:
         return the_deed(forest, row)
     return forest, the_answer(forest, row)

@@ -6,7 +6,11 @@ import random
 from tests.brute import ringless
 
 KINDS = "abcdefgh"
-LARGE = 10 ** 30 - 1
+
+# A tree with two forks (0 to 5), a pair (6, 8), and a point alone (7).
+FORK = (
+    ((3, "a"), (1, "b"), (4, "c"), (1, "d"), (5, "e"), (9, "f"), (2, "g"), (6, "h"), (5, "a")),
+    ((0, 2), (1, 2), (2, 4), (3, 4), (4, 5), (6, 8)))
 
 
 def plain_points(many):

@@ -7,7 +7,8 @@ import unittest
 
 from tests.brute import ringless
 from tests.makers import (
-    LARGE, fixed, great_forests, grown, middling_forests, nested, odd_things, plain_points, small_forests, star, straight)
+    fixed, great_forests, grown, middling_forests, nested, odd_things, plain_points, small_forests, star, straight)
+from tests.rowmakers import LARGE
 from tiedcut.forests import is_forest, is_kind
 
 BENT = [None, True, False, -1, 1.0, 0.0, "0", "a", b"a", [], (), {}, [0, 1], (0, 1), ((0, 1),), object()]

@@ -13,6 +13,10 @@ INTERFACE = {
     "errors": "TreeError NoRow NoPoint Ring NoTie Apart NoPlace NoDeed NoForest NoLine NoText",
     "ranks": "rank",
     "forests": "is_kind is_forest",
+    "walking": "way_of part_of side_of meet_of",
+    "tiedpapers": "tied_paper shows_tied",
+    "rows": "is_row is_deed plain_word",
+    "plainrows": "plain_do plain_rows",
 }
 
 BUILTINS = set((
