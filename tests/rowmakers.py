@@ -47,9 +47,9 @@ def rows_of(many):
             yield (word, *row)
 
 
-def chance_row(chance, many, slack=0):
+def chance_row(chance, many, slack=0, words=tuple(FORMS)):
     """A row by chance; its points are those that are there, or up to slack beyond them on each side."""
-    word = chance.choice(list(FORMS))
+    word = chance.choice(words)
     parts = []
     for at, form in enumerate(FORMS[word], 1):
         if at in POINTS_AT[word]:

@@ -2,6 +2,7 @@
 
 import ast
 import builtins
+import functools
 import pathlib
 import re
 import unittest
@@ -17,6 +18,15 @@ INTERFACE = {
     "tiedpapers": "tied_paper shows_tied",
     "rows": "is_row is_deed plain_word",
     "plainrows": "plain_do plain_rows",
+    "turning": "Turning",
+    "shapes": "is_shape weights credit_of shows_turned",
+    "ways": "Ways",
+    "wayshapes": "ties_of_shape untwisted stepped ways_bound",
+}
+
+METHODS_OF = {
+    ("turning", "Turning"): "__init__ lift order shape turns",
+    ("ways", "Ways"): "__init__ do shape lead_up looks credit",
 }
 
 BUILTINS = set((
@@ -38,17 +48,24 @@ METHODS = set((
     "join keys ljust lower lstrip partition pop remove replace reverse rfind rjust rpartition rsplit rstrip setdefault "
     "split splitlines startswith strip update upper values zfill bit_length sort add discard").split())
 
+VALUES_METHODS = {name for value in ("", b"", 0, [], {}, set(), ()) for name in dir(value) if not name.startswith("_")}
+
 
 def sources():
     return sorted(PACKAGE.glob("*.py"))
 
 
+@functools.cache
 def trees():
     return [(path.name, ast.parse(path.read_text(encoding="utf-8"))) for path in sources()]
 
 
 def nodes(*kinds):
     return [(name, node) for name, tree in trees() for node in ast.walk(tree) if isinstance(node, kinds)]
+
+
+def method_names():
+    return {part.name for name, node in nodes(ast.ClassDef) for part in node.body if isinstance(part, ast.FunctionDef)}
 
 
 def bound_names(tree):
@@ -91,6 +108,14 @@ class Files(unittest.TestCase):
             own = {node.name for node in tree.body if isinstance(node, (ast.FunctionDef, ast.ClassDef))}
             self.assertLessEqual(set(names.split()), own, file)
 
+    def test_methods_are_defined_in_their_class_itself(self):
+        for (file, name), methods in METHODS_OF.items():
+            tree = ast.parse((PACKAGE / f"{file}.py").read_text(encoding="utf-8"))
+            for node in tree.body:
+                if isinstance(node, ast.ClassDef) and node.name == name:
+                    own = {part.name for part in node.body if isinstance(part, ast.FunctionDef)}
+                    self.assertLessEqual(set(methods.split()), own, name)
+
 
 class Words(unittest.TestCase):
 
@@ -115,10 +140,30 @@ class Words(unittest.TestCase):
                 del ahead[name]
 
     def test_no_name_is_barred(self):
+        methods = method_names()
         for name, tree in trees():
             for bound in bound_names(tree):
-                self.assertNotIn(bound, BUILTINS | OTHER_BUILTINS | BARRED_NAMES, name)
+                # A method may have the name of a builtin that the package itself never uses.
+                barred = BUILTINS | BARRED_NAMES | (OTHER_BUILTINS - methods)
+                self.assertNotIn(bound, barred, name)
                 self.assertTrue(bound == "__init__" or not bound.startswith("_"), (name, bound))
+
+    def test_no_name_is_a_method_here_and_an_attribute_there(self):
+        stored = {node.attr for name, node in nodes(ast.Attribute) if isinstance(node.ctx, ast.Store)}
+        self.assertFalse(stored & method_names())
+        self.assertFalse(stored & VALUES_METHODS)
+        self.assertFalse(method_names() & (VALUES_METHODS - METHODS))
+
+    def test_each_attribute_is_assigned_by_a_class(self):
+        stored = {node.attr for name, node in nodes(ast.Attribute) if isinstance(node.ctx, ast.Store)}
+        known = stored | method_names() | METHODS
+        for name, node in nodes(ast.Attribute):
+            self.assertIn(node.attr, known, name)
+
+    def test_no_method_is_defined_twice(self):
+        for name, node in nodes(ast.ClassDef):
+            own = [part.name for part in node.body if isinstance(part, ast.FunctionDef)]
+            self.assertEqual(len(own), len(set(own)), (name, node.name))
 
     def test_no_local_name_is_a_class_or_an_import(self):
         for name, tree in trees():

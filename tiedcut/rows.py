@@ -74,6 +74,13 @@ def refuse_unfit(row, many):
             raise NoPoint()
 
 
+def refuse_undone(row, words, many):
+    """The same for a keeper that does only rows of these words: others are refused by their word alone."""
+    if is_row(row) and row[0] not in words:
+        raise NoRow()
+    refuse_unfit(row, many)
+
+
 def plain_word(error):
     """The name of a refusal's class."""
     if isinstance(error, NoRow):
