@@ -22,11 +22,16 @@ INTERFACE = {
     "shapes": "is_shape weights credit_of shows_turned",
     "ways": "Ways",
     "wayshapes": "ties_of_shape untwisted stepped ways_bound",
+    "roundmarks": "is_round ties_of_round",
+    "rounds": "Rounds rounds_bound",
+    "twin": "Twin",
 }
 
 METHODS_OF = {
     ("turning", "Turning"): "__init__ lift order shape turns",
     ("ways", "Ways"): "__init__ do shape lead_up looks credit",
+    ("rounds", "Rounds"): "__init__ do round shape lift looks credit",
+    ("twin", "Twin"): "__init__ do forest looks book back done at",
 }
 
 BUILTINS = set((
@@ -171,6 +176,9 @@ class Words(unittest.TestCase):
             held += [node.name for node in tree.body if isinstance(node, ast.ClassDef)]
             self.assertEqual(len(held), len(set(held)), name)
             inner = [bound for node in tree.body if not isinstance(node, ast.ClassDef) for bound in bound_names(node)]
+            for node in tree.body:
+                methods = node.body if isinstance(node, ast.ClassDef) else []
+                inner += [bound for method in methods for part in ast.iter_child_nodes(method) for bound in bound_names(part)]
             self.assertFalse(set(held) & set(inner), name)
 
     def test_only_plain_builtins(self):

@@ -222,6 +222,19 @@ class LongRuns(Keeping):
                 self.check_shape(ways, forest)
 
 
+class Forgetting(Keeping):
+
+    def test_the_last_point_is_gone(self):
+        ways = Ways(FORK)
+        for row in (("new", 5, "a"), ("tie", 9, 0), ("add", 9, 5, 4), ("cut", 9, 0), ("add", 0, 5, -4)):
+            ways.do(row)
+        ways.forget()
+        self.check_all_told(ways, FORK)
+        self.assertEqual(outcome(ways.lead_up, 9), ("refused", "NoPoint"))
+        self.assertEqual(outcome(ways.do, ("put", 9, 0)), ("refused", "NoPoint"))
+        self.assertEqual(ways.do(("new", 6, "b")), 9)
+
+
 class WayBack(unittest.TestCase):
 
     def test_a_way_turned_about(self):

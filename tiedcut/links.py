@@ -33,7 +33,7 @@ class Links:
         self.take_rows([(x, None, None, None, False)])
 
     def drop_name(self, x):
-        """Have a name no more that nothing is linked with."""
+        """Have a name no more that nothing else is linked with."""
         del self.left[x], self.right[x], self.above[x], self.turned[x]
 
     def has_name(self, x):
@@ -117,7 +117,7 @@ class Links:
             return [u, x]
         return [x, x]
 
-    def lift(self, x, goal=None):
+    def lift_up(self, x, goal=None):
         """Lift x to the top of its tree, or until it is straight below goal: the tuple of the names turned."""
         self.push_down_to(x)
         names = []

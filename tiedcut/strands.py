@@ -2,7 +2,7 @@
 
 from tiedcut.tallied import Tallied
 from tiedcut.tallies import point_tally
-from tiedcut.walking import steps_toward
+from tiedcut.walking import least_points, steps_toward
 
 
 class Strands(Tallied):
@@ -28,21 +28,19 @@ class Strands(Tallied):
         self.beside[p] = (0, 0)
         return p
 
-    def drop_point(self, p):
+    def drop_last(self):
         """Have the last point no more, which is tied to none."""
+        p = len(self.above) - 1
         self.drop_tallied(p)
         del self.hung[p], self.beside[p]
 
     def hang_ties(self, forest):
         """At the beginning each point is a strand of its own, hung below the next one toward its part's least one."""
-        found = {}
-        for p in range(len(forest[0])):
-            if p not in found:
-                toward = steps_toward(forest, p)
-                found.update(toward)
-                # Those farther out come first, so that all is hung on a point already when it is hung itself.
-                for x in reversed(list(toward)):
-                    self.hang_under(x, toward[x])
+        for p in least_points(forest):
+            toward = steps_toward(forest, p)
+            # Those farther out come first, so that all is hung on a point already when it is hung itself.
+            for x in reversed(list(toward)):
+                self.hang_under(x, toward[x])
 
     def hang_under(self, x, u):
         """Hang x, a top with nobody above it, below u, if that is anybody."""
@@ -99,12 +97,12 @@ class Strands(Tallied):
             self.hang(top)
             steps.append(("hang", top))
             top = u
-        steps.extend([("turn", x) for x in self.lift(p)])
+        steps.extend([("turn", x) for x in self.lift_up(p)])
         return tuple(steps)
 
     def lift_and_let(self, x):
         """Lift x in its strand and let go what is behind it there: the list of the steps."""
-        steps = [("turn", y) for y in self.lift(x)]
+        steps = [("turn", y) for y in self.lift_up(x)]
         self.let_go(x)
         steps.append(("let", x))
         return steps
@@ -125,7 +123,7 @@ class Strands(Tallied):
         while not self.fits_here(x, fits):
             near = self.left[x]
             x = near if near is not None and fits(self.tally[near]) else self.right[x]
-        self.lift(x)
+        self.lift_up(x)
         return x
 
     def fits_here(self, x, fits):
@@ -145,7 +143,7 @@ class Strands(Tallied):
                 k -= ahead + 1
                 x = self.right[x]
             ahead = self.many_ahead(x)
-        self.lift(x)
+        self.lift_up(x)
         return x
 
     def many_ahead(self, x):

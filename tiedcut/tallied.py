@@ -24,7 +24,7 @@ class Tallied(Links):
         self.more[x] = 0
 
     def drop_tallied(self, x):
-        """Have a name no more that nothing is linked with."""
+        """Have a name no more that nothing else is linked with."""
         self.drop_name(x)
         del self.own[x], self.tally[x], self.more[x]
 

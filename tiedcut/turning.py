@@ -17,7 +17,7 @@ class Turning:
     def lift(self, x):
         """Lift x to the top: the tuple of the names turned, one by one."""
         self.top = x
-        return self.links.lift(x)
+        return self.links.lift_up(x)
 
     def order(self):
         """The tuple of the names in order."""

@@ -19,6 +19,17 @@ def part_of(forest, a):
     return tuple(sorted(list(steps_toward(forest, a))))
 
 
+def least_points(forest):
+    """The rising list of each part's least point."""
+    found = {}
+    least = []
+    for p in range(len(forest[0])):
+        if p not in found:
+            least.append(p)
+            found.update(steps_toward(forest, p))
+    return least
+
+
 def side_of(forest, p, q):
     """The rising tuple of the points that are joined with p when the tie of p and q is cut."""
     return part_of(without_tie(forest, p, q), p)

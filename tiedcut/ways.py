@@ -27,6 +27,10 @@ class Ways:
             raise NoPoint()
         return self.strands.lead_up(p)
 
+    def forget(self):
+        """Have the last point no more, which is tied to none."""
+        self.strands.drop_last()
+
     def looks(self):
         """How many turns and lets there were so far."""
         return self.strands.looked
