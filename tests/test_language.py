@@ -25,6 +25,10 @@ INTERFACE = {
     "roundmarks": "is_round ties_of_round",
     "rounds": "Rounds rounds_bound",
     "twin": "Twin",
+    "books": "shows_book",
+    "lightest": "Lightest",
+    "lightpapers": "shows_lightest",
+    "holding": "Holding",
 }
 
 METHODS_OF = {
@@ -32,6 +36,8 @@ METHODS_OF = {
     ("ways", "Ways"): "__init__ do shape lead_up looks credit",
     ("rounds", "Rounds"): "__init__ do round shape lift looks credit",
     ("twin", "Twin"): "__init__ do forest looks book back done at",
+    ("lightest", "Lightest"): "__init__ offer kept price slacks paper",
+    ("holding", "Holding"): "__init__ offer holds holding paper",
 }
 
 BUILTINS = set((
