@@ -29,6 +29,10 @@ INTERFACE = {
     "lightest": "Lightest",
     "lightpapers": "shows_lightest",
     "holding": "Holding",
+    "holdpapers": "shows_holding",
+    "foresttexts": "show_forest read_forest",
+    "rowtexts": "show_row read_row show_told",
+    "desk": "Desk",
 }
 
 METHODS_OF = {
@@ -38,6 +42,7 @@ METHODS_OF = {
     ("twin", "Twin"): "__init__ do forest looks book back done at",
     ("lightest", "Lightest"): "__init__ offer kept price slacks paper",
     ("holding", "Holding"): "__init__ offer holds holding paper",
+    ("desk", "Desk"): "__init__ say",
 }
 
 BUILTINS = set((
@@ -57,7 +62,7 @@ BARRED_WORDS = re.compile(
 METHODS = set((
     "append clear copy count endswith extend find get index insert isalnum isalpha isdigit islower isspace isupper items "
     "join keys ljust lower lstrip partition pop remove replace reverse rfind rjust rpartition rsplit rstrip setdefault "
-    "split splitlines startswith strip update upper values zfill bit_length sort add discard").split())
+    "split splitlines startswith strip update upper values zfill bit_length sort add discard removeprefix").split())
 
 VALUES_METHODS = {name for value in ("", b"", 0, [], {}, set(), ()) for name in dir(value) if not name.startswith("_")}
 

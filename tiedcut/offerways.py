@@ -1,7 +1,8 @@
 """Offers that lead from one point on to another, by their numbers."""
 
-from tiedcut.errors import NoPoint, NoRow
+from tiedcut.errors import NoRow
 from tiedcut.forests import tie_of
+from tiedcut.rows import refuse_missing
 from tiedcut.walking import way_of
 from tiedcut.wholes import are_wholes, is_whole
 
@@ -10,8 +11,7 @@ def refuse_ends(a, b, many):
     """Refuse two ends of an offer, of anything, that aren't points from 0 to many - 1."""
     if not is_whole(a) or not is_whole(b):
         raise NoRow()
-    if not 0 <= a < many or not 0 <= b < many:
-        raise NoPoint()
+    refuse_missing([a, b], many)
 
 
 def as_forest(many, ties):

@@ -69,9 +69,13 @@ def refuse_unfit(row, many):
     """Refuse what is refused first of all, of anything as row, where there are so many points."""
     if not is_row(row):
         raise NoRow()
-    for number in points_named(row):
-        if not 0 <= number < many:
-            raise NoPoint()
+    refuse_missing(points_named(row), many)
+
+
+def refuse_missing(numbers, many):
+    """Refuse whole numbers of which one is no point's, where there are so many points."""
+    if not all(0 <= number < many for number in numbers):
+        raise NoPoint()
 
 
 def refuse_undone(row, words, many):

@@ -15,14 +15,17 @@ def tied_paper(forest, a, b):
 
 def shows_tied(forest, a, b, thing):
     """Whether thing, of anything, is a paper of a and b: looked at tie by tie, with nothing searched for."""
-    if not isinstance(thing, tuple) or len(thing) != 2:
+    if not is_worded(thing):
         return False
     word, numbers = thing
-    if not isinstance(word, str) or not are_wholes(numbers):
-        return False
     if word == "way":
         return is_way(forest, a, b, numbers)
     return word == "apart" and sets_apart(forest, a, b, numbers)
+
+
+def is_worded(thing):
+    """Whether thing, of anything, is a pair of a text and a tuple of whole numbers."""
+    return isinstance(thing, tuple) and len(thing) == 2 and isinstance(thing[0], str) and are_wholes(thing[1])
 
 
 def is_way(forest, a, b, numbers):
